@@ -1,0 +1,1 @@
+"""Pasthall: a version store whose every answer carries a paper."""
