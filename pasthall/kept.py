@@ -8,10 +8,11 @@ def next_heights(line, new, heights):
     """The heights of the next rung: how many pairs the lines of old so far make with each beginning of new."""
     higher = [0]
     for j, other in enumerate(new):
-        most = max(heights[j + 1], higher[j])
         if other == line:
-            most = max(most, heights[j] + 1)
-        higher.append(most)
+            # No list of pairs is longer by more than one for one line more.
+            higher.append(heights[j] + 1)
+        else:
+            higher.append(max(heights[j + 1], higher[j]))
     return higher
 
 

@@ -76,3 +76,181 @@ def check_refused(test, error, call, *handed):
         call(*handed)
     test.assertIs(type(caught.exception), error)
     test.assertEqual(handed, before)
+
+
+def done(cells, deeds):
+    """What deeds in order make of a row of any things, place by place; lines put are tuples ("put", number, line).
+
+    Told is a tuple of what comes and of the things taken, each with the line that the deed names; None where a place
+    is not there.
+    """
+    puts, takes, numbers = {}, {}, itertools.count()
+    for word, place, line in deeds:
+        if not 0 <= place < len(cells) + (word == "put"):
+            return None
+        if word == "put":
+            puts.setdefault(place, []).append(("put", next(numbers), line))
+        else:
+            takes[place] = line
+    come, taken = [], []
+    for place in range(len(cells) + 1):
+        come.extend(puts.get(place, []))
+        if place in takes:
+            taken.append((cells[place], takes[place]))
+        elif place < len(cells):
+            come.append(cells[place])
+    return come, taken
+
+
+def lines_both_need(length, first, second):
+    """The lines, by places, that a row of a length must have for two edits to fit one behind the other; else None."""
+    ahead = done(list(range(length)), first)
+    if ahead is None or max(length, len(ahead[0])) > 40:
+        return None
+    later = done(ahead[0], second)
+    if later is None or len(later[0]) > 40:
+        return None
+    needed = {}
+    for cell, line in ahead[1] + later[1]:
+        if isinstance(cell, tuple):
+            if cell[2] != line:
+                return None
+        else:
+            needed[cell] = line
+    return needed
+
+
+def rows_of_both(first, second):
+    """Rows that two edits fit one behind the other: of each length, with lines of their own and with like ones."""
+    rows = []
+    for length in range(41):
+        needed = lines_both_need(length, first, second)
+        if needed is not None:
+            rows.append([needed.get(place, own_line(place)) for place in range(length)])
+            if len(needed) < length:
+                rows.append([needed.get(place, "a") for place in range(length)])
+    return rows
+
+
+def lines_of(word, deeds):
+    """The lines of the deeds with a word, in their order."""
+    return [deed[2] for deed in deeds if deed[0] == word]
+
+
+def shared_lines(first, second):
+    """The lines that the first edit puts and the second one takes, of two that follow."""
+    for length in range(41):
+        if lines_both_need(length, first, second) is not None:
+            between = done(list(range(length)), first)[0]
+            return [line for cell, line in done(between, second)[1] if isinstance(cell, tuple)]
+    raise AssertionError("the edits don't follow")
+
+
+def some_edit(chance, row, most=40, thrift=3, lines=("", "a", "b", "zzzzzzzz")):
+    """An edit by chance that fits a row."""
+    deeds = []
+    room = most - len(row)
+    for place in range(len(row) + 1):
+        gone = place < len(row) and chance.randrange(thrift) == 0
+        room += gone
+        while room > 0 and chance.randrange(thrift) == 0:
+            deeds.append(("put", place, chance.choice(lines)))
+            room -= 1
+        if gone:
+            deeds.append(("take", place, row[place]))
+    return deeds
+
+
+def after(row, deeds):
+    """What comes of a row by an edit that fits it."""
+    return [cell[2] if isinstance(cell, tuple) else cell for cell in done(row, deeds)[0]]
+
+
+def some_pairs(seed, many):
+    """Pairs of edits that follow, on rows of all lengths."""
+    pairs = []
+    for chance in chances(seed, many):
+        thrift = chance.randint(2, 9)
+        row = some_row(chance, chance.choice((1, 3, 8, 40)))
+        first = some_edit(chance, row, 40, thrift)
+        pairs.append((first, some_edit(chance, after(row, first), 40, thrift)))
+    return pairs
+
+
+def small_edits(lines=("a", "b")):
+    """All edits with at most one put at the places 0, 1, 2 and a take at the places 0, 1."""
+    choices = []
+    for place in range(3):
+        choices.append([None] + [("put", place, line) for line in lines])
+        if place < 2:
+            choices.append([None] + [("take", place, line) for line in lines])
+    return [[deed for deed in deeds if deed is not None] for deeds in itertools.product(*choices)]
+
+
+BAD_EDITS = ([("take", -1, "a")], [("put", -1, "a")], [("take", 40, "a")], [("put", 41, "a")], [("put", 40, "a")],
+             [("take", 0, "a"), ("take", 0, "a")], [("take", 0, "a"), ("put", 0, "b")],
+             [("put", 1, "a"), ("put", 0, "b")], [("take", 1, "a"), ("take", 0, "b")], [("move", 0, "a")],
+             [("", 0, "a")], [("Take", 0, "a")], [("put ", 0, "a")], [("new", 0, "a")], [("put", 0, "A")],
+             [("take", 0, "abcdefghi")], [("put", 0, "a\n")], [("take", 0, " ")], [("put", 0, "a")] * 41,
+             [("take", 39, "a"), ("put", 40, "b"), ("put", 40, "b")], [("take", 1000, "a")], [("put", 1000, "a")])
+
+PATHS = ("a", "b", "c", "docs", "main", "notes", "readme", "x", "y", "zzzzzzzz")
+
+BAD_TREES = ({"": []}, {"A": []}, {"a b": []}, {"a1": []}, {"abcdefghi": []}, {"a\n": []}, {"a.b": []},
+             {"a": [""] * 41}, {"a": ["A"]}, {"a": [], "b": ["abcdefghi"]}, {"a": [], "b c": []},
+             {path: [] for path in PATHS[:9]})
+
+
+def some_tree(chance, most=8, lines=5):
+    paths = chance.sample(PATHS, chance.randint(0, most))
+    return {path: some_row(chance, lines) for path in paths}
+
+
+def full_tree():
+    """Eight files of forty lines."""
+    return {path: [own_line(number * 40 + place) for place in range(40)] for number, path in enumerate(PATHS[:8])}
+
+
+def some_change(chance, tree, paths=PATHS, lines=5):
+    """A change by chance that fits a tree."""
+    change = {}
+    left = len(tree)
+    for path in chance.sample(sorted(tree), len(tree)):
+        turn = chance.randrange(3)
+        if turn == 0:
+            change[path] = ("gone", list(tree[path]))
+            left -= 1
+        elif turn == 1:
+            deeds = some_edit(chance, tree[path], 40, chance.randint(1, 4))
+            if deeds:
+                change[path] = ("edit", deeds)
+    for path in paths:
+        if path not in tree and left < 8 and chance.randrange(3) == 0:
+            change[path] = ("new", some_row(chance, lines))
+            left += 1
+    return change
+
+
+def file_after(row, deed):
+    """What a deed makes of a path's row, or of None for no file; False where it doesn't fit."""
+    if deed is None:
+        return row
+    if deed[0] == "new":
+        return list(deed[1]) if row is None else False
+    if row is None:
+        return False
+    if deed[0] == "gone":
+        return None if row == deed[1] else False
+    come = done(row, deed[1])
+    if come is None or len(come[0]) > 40 or any(cell != line for cell, line in come[1]):
+        return False
+    return after(row, deed[1])
+
+
+def tree_after(tree, change):
+    """[2.3] word by word: what a change makes of a tree, or None where it doesn't fit."""
+    files = {path: file_after(tree.get(path), change.get(path)) for path in set(tree) | set(change)}
+    if any(row is False for row in files.values()):
+        return None
+    files = {path: row for path, row in files.items() if row is not None}
+    return files if len(files) <= 8 else None
