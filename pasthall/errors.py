@@ -40,9 +40,9 @@ class NoFile(PastError):
 class Clash(PastError):
     """What can't be merged; `paths` are the paths that clash, rising."""
 
-    def __init__(self, paths=()):
+    def __init__(self, paths=None):
         PastError.__init__(self, "there is a clash")
-        self.paths = sorted(set(paths))
+        self.paths = [] if paths is None else sorted(set(paths))
 
 
 class BadPaper(PastError):

@@ -39,16 +39,30 @@ class ClashPaths(unittest.TestCase):
         self.assertEqual(paths, ["a", "b", "c"])
 
     def test_a_clash_without_paths_has_an_empty_list(self):
-        self.assertEqual(errors.Clash().paths, [])
-        self.assertIs(type(errors.Clash().paths), list)
+        for clash in (errors.Clash(), errors.Clash([])):
+            self.assertEqual(clash.paths, [])
+            self.assertIs(type(clash.paths), list)
 
     def test_its_paths_are_its_own(self):
         handed = ["a", "b"]
         clash = errors.Clash(handed)
         handed.append("c")
         self.assertEqual(clash.paths, ["a", "b"])
+        clash.paths.append("d")
+        self.assertEqual(handed, ["a", "b", "c"])
         errors.Clash().paths.append("a")
         self.assertEqual(errors.Clash().paths, [])
+
+    def test_no_two_clashes_share_a_list(self):
+        for one, other in ((errors.Clash(), errors.Clash()), (errors.Clash(["a"]), errors.Clash(["a"]))):
+            before = list(other.paths)
+            one.paths.append("b")
+            self.assertEqual(other.paths, before)
+
+    def test_a_clash_that_is_raised_has_its_paths(self):
+        with self.assertRaises(errors.Clash) as caught:
+            raise errors.Clash(["b", "a"])
+        self.assertEqual(caught.exception.paths, ["a", "b"])
 
 
 if __name__ == "__main__":

@@ -1,4 +1,4 @@
-"""Promise [1]: no clock, no chance, no files of the machine; so nothing from outside is drawn in."""
+"""Promise [1]: no clock, no chance, no files of the machine, and nothing that two objects have in common."""
 
 import ast
 import pathlib
@@ -36,6 +36,14 @@ class Package(unittest.TestCase):
         for name, tree in self.trees():
             used = set(node.id for node in ast.walk(tree) if isinstance(node, ast.Name))
             self.assertEqual(used & set(REACHING_OUT), set(), name)
+
+    def test_defaults_are_plain_values(self):
+        # A list or a tuple as a default would be one for all calls.
+        for name, tree in self.trees():
+            for node in ast.walk(tree):
+                if isinstance(node, ast.arguments):
+                    for default in node.defaults + node.kw_defaults:
+                        self.assertIsInstance(default, ast.Constant, name)
 
 
 if __name__ == "__main__":
