@@ -22,3 +22,11 @@ def check_tree(tree):
     """Refuse what is no tree."""
     if not is_tree(tree):
         raise BadTree("no tree of files")
+
+
+def copied_tree(tree):
+    """A tree of its own with the same files, by rising paths."""
+    files = {}
+    for path in sorted(tree):
+        files[path] = list(tree[path])
+    return files

@@ -1,8 +1,10 @@
-"""What the tests share: rows to try, and a look at whose the lists are."""
+"""What the tests share: rows, trees, webs and histories to try, and a look at whose the lists are."""
 
 import copy
 import itertools
 import random
+
+from pasthall.histories import History
 
 LINES = ("", "a", "b")
 
@@ -254,3 +256,77 @@ def tree_after(tree, change):
         return None
     files = {path: row for path, row in files.items() if row is not None}
     return files if len(files) <= 8 else None
+
+
+def all_elders(version):
+    """All tuples that may be the elders of a version."""
+    return [elders for many in range(4) for elders in itertools.combinations(range(version), many)]
+
+
+def all_webs(most):
+    """All webs with at most so many versions."""
+    return [list(web) for many in range(1, most + 1)
+            for web in itertools.product(*[all_elders(version) for version in range(many)])]
+
+
+def some_web(chance, many=40):
+    """A web by chance: wide or narrow, with few elders or with many."""
+    reach, most = chance.choice((1, 2, 3, 6, 40)), chance.randint(1, 3)
+    web = []
+    for version in range(many):
+        near = range(max(0, version - reach), version)
+        web.append(tuple(sorted(chance.sample(near, min(len(near), chance.randint(0 if reach > 3 else 1, most))))))
+    return web
+
+
+def dense_web(many=40):
+    """Each version has the three ahead of it as elders, so there are very many ways."""
+    return [tuple(range(max(0, version - 3), version)) for version in range(many)]
+
+
+BAD_WEBS = ([], [()] * 41, [(0,)], [(-1,)], [(1,), ()], [(), (1,)], [(), (2,)], [(), (-1,)], [(), (0, 0)],
+            [(), (), (1, 0)], [(), (), (0, 2)], [(), (), (-1, 0)], [(), (), (0, 1, 1)], [(), (), (), (0, 2, 1)],
+            [(), (), (), (), (0, 1, 2, 3)], [(), (), (0, 1), (0, 1, 2, 3)], dense_web(41))
+
+
+def set_above(web, version, without=()):
+    """[3.1]: what is above a version, or is so by ways without some versions."""
+    found, left = set(), [version]
+    while left:
+        number = left.pop()
+        if number not in found and number not in without:
+            found.add(number)
+            left.extend(web[number])
+    return found
+
+
+def common_by_words(web, some):
+    """[3.2] word by word: the latest common ones."""
+    common = set.intersection(*[set_above(web, version) for version in some])
+    return sorted(version for version in common if not any(version in web[other] for other in common))
+
+
+def history_of(web, trees):
+    history = History()
+    for elders, tree in zip(web, trees):
+        history.put_version(elders, tree)
+    return history
+
+
+def shown(history):
+    """All that a history tells."""
+    return (history.many(), history.web(), [history.tree(version) for version in range(history.many())])
+
+
+def check_own_of_history(test, call, history, *handed):
+    """Promise [1] for a call that gets a history: neither it nor what is told hangs on the other."""
+    before = shown(history)
+    check_own(test, lambda *more: call(history, *more), *handed)
+    test.assertEqual(shown(history), before)
+
+
+def check_refused_of_history(test, error, call, history, *handed):
+    """A call that gets a history is refused with just this error, and changes nothing."""
+    before = shown(history)
+    check_refused(test, error, lambda *more: call(history, *more), *handed)
+    test.assertEqual(shown(history), before)

@@ -13,16 +13,34 @@ INTERFACE = {
     "trees": {"is_tree": "tree"},
     "changes": {"is_change": "change", "change": "old new", "changed": "tree change", "turned_change": "change",
                 "followed": "first second", "moves": "old new", "leads": "old new change"},
+    "webs": {"is_web": "web", "above": "web version", "below": "web version", "between": "web one other",
+             "ends": "web"},
+    "commons": {"latest_common": "web some", "common_paper": "web some", "common_holds": "web some paper"},
+    "ways": {"ways": "web one other", "must_pass": "web one other", "first_way": "web one other"},
+    "histories": {"History": ""},
+}
+
+METHODS = {
+    ("histories", "History"): {"many": "", "web": "", "put_version": "elders tree", "tree": "version"},
 }
 
 
 class Interface(unittest.TestCase):
+    def check_arguments(self, called, arguments):
+        self.assertEqual(list(inspect.signature(called).parameters), arguments.split())
+
     def test_names_and_arguments(self):
         for module, functions in INTERFACE.items():
             for name, arguments in functions.items():
                 with self.subTest(module=module, name=name):
-                    function = getattr(importlib.import_module("pasthall." + module), name)
-                    self.assertEqual(list(inspect.signature(function).parameters), arguments.split())
+                    self.check_arguments(getattr(importlib.import_module("pasthall." + module), name), arguments)
+
+    def test_methods_and_arguments(self):
+        for (module, name), methods in METHODS.items():
+            made = getattr(importlib.import_module("pasthall." + module), name)()
+            for method, arguments in methods.items():
+                with self.subTest(name=name, method=method):
+                    self.check_arguments(getattr(made, method), arguments)
 
 
 if __name__ == "__main__":
