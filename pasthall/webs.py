@@ -73,7 +73,6 @@ def below(web, version):
 
 def between(web, one, other):
     """The rising list of what is above the other and not above the one."""
-    check_versions(web, [one, other])
     left_out = above(web, one)
     return [version for version in above(web, other) if version not in left_out]
 

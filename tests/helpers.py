@@ -4,7 +4,9 @@ import copy
 import itertools
 import random
 
+from pasthall.errors import PastError
 from pasthall.histories import History
+from pasthall.pieces import pieces
 
 LINES = ("", "a", "b")
 
@@ -330,3 +332,87 @@ def check_refused_of_history(test, error, call, history, *handed):
     before = shown(history)
     check_refused(test, error, lambda *more: call(history, *more), *handed)
     test.assertEqual(shown(history), before)
+
+
+def outcome(call, *handed):
+    """What a call tells, or the refusal's name and its paths."""
+    try:
+        return ("told", call(*handed))
+    except PastError as error:
+        return (type(error).__name__, getattr(error, "paths", None))
+
+
+def row_or_clash(base, one, other):
+    """[4.5] word by word, for one path: a tuple of its row, or None for nothing, and whether it clashes."""
+    if one == base:
+        return (other, False)
+    if other == base:
+        return (one, False)
+    if one == other:
+        return (one, False)
+    if None not in (base, one, other):
+        told = pieces(base, one, other)
+        row = [line for piece in told for line in piece[-1]]
+        if "clash" not in [piece[0] for piece in told] and len(row) <= 40:
+            return (row, False)
+    return (None, True)
+
+
+def trees_by_words(base, one, other):
+    """[4.5] word by word: the outcome of trees that are trees."""
+    found = {path: row_or_clash(base.get(path), one.get(path), other.get(path)) for path in {**base, **one, **other}}
+    clashing = sorted(path for path, (row, clash) in found.items() if clash)
+    if clashing:
+        return ("Clash", clashing)
+    files = {path: row for path, (row, clash) in found.items() if row is not None}
+    return ("told", files) if len(files) <= 8 else ("BadTree", None)
+
+
+def common_tree_by_words(history, some):
+    """[4.6] word by word: the outcome."""
+    latest = common_by_words(history.web(), some)
+    if not latest:
+        return ("told", {})
+    come = ("told", history.tree(latest[0]))
+    for turn, version in enumerate(latest[1:], 1):
+        base = common_tree_by_words(history, latest[:turn] + [version])
+        if base[0] != "told":
+            return base
+        come = trees_by_words(base[1], come[1], history.tree(version))
+        if come[0] != "told":
+            return come
+    return come
+
+
+def merged_by_words(history, one, other):
+    """[4.6] word by word: the outcome of two versions merged."""
+    base = common_tree_by_words(history, [one, other])
+    return trees_by_words(base[1], history.tree(one), history.tree(other)) if base[0] == "told" else base
+
+
+def step_on(chance, tree):
+    """A tree with a little done to it."""
+    tree = {path: list(row) for path, row in tree.items()}
+    path = chance.choice(PATHS)
+    turn = chance.randrange(8)
+    if path not in tree and len(tree) < 8:
+        tree[path] = some_row(chance, 2, ("a", "b"))
+    elif path in tree and turn == 0:
+        del tree[path]
+    elif path in tree and turn == 1 and len(tree[path]) < 40:
+        tree[path].append("z")
+    elif path in tree and tree[path]:
+        tree[path][chance.randrange(len(tree[path]))] = chance.choice(("n", "m"))
+    return tree
+
+
+def some_history(chance, many):
+    """A history by chance: each version is made of one of its elders."""
+    web, trees = some_web(chance, many), []
+    start = {path: own_lines(7) for path in PATHS[:chance.randint(1, 6)]}
+    for elders in web:
+        tree = trees[chance.choice(elders)] if elders else start
+        for turn in range(chance.randint(0, 3)):
+            tree = step_on(chance, tree)
+        trees.append(tree)
+    return history_of(web, trees)

@@ -18,6 +18,11 @@ INTERFACE = {
     "commons": {"latest_common": "web some", "common_paper": "web some", "common_holds": "web some paper"},
     "ways": {"ways": "web one other", "must_pass": "web one other", "first_way": "web one other"},
     "histories": {"History": ""},
+    "pieces": {"pieces": "base one other", "sides": "told", "pieces_hold": "base one other told"},
+    "merging": {"merged": "told", "settled": "told picks"},
+    "treemerge": {"merged_trees": "base one other", "common_tree": "history some",
+                  "merged_versions": "history one other"},
+    "undoing": {"undone": "history head version elder"},
 }
 
 METHODS = {
