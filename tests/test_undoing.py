@@ -83,7 +83,7 @@ class Undone(unittest.TestCase):
 
     def test_by_chance(self):
         outcomes = {}
-        for chance in chances(67, 120):
+        for chance in chances(67, 50):
             history = some_history(chance, 12)
             for version, elders in enumerate(history.web()):
                 for head, elder in itertools.product(range(12), elders):
