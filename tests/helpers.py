@@ -6,6 +6,7 @@ import random
 
 from pasthall.errors import PastError
 from pasthall.histories import History
+from pasthall.kept import kept
 from pasthall.pieces import pieces
 
 LINES = ("", "a", "b")
@@ -416,3 +417,87 @@ def some_history(chance, many):
             tree = step_on(chance, tree)
         trees.append(tree)
     return history_of(web, trees)
+
+
+def suspects_by_words(web, bad, goods):
+    """[5.1] word by word: those that may be the first bad one."""
+    found = []
+    for version in range(len(web)):
+        bads = [number for number in range(len(web)) if version in set_above(web, number)]
+        if bad in bads and not any(good in bads for good in goods):
+            found.append(version)
+    return found
+
+
+def fewest_by_words(web, some):
+    """The least length of a plan that finds each of some suspects, one or more, gone through by all askings."""
+    higher = [set_above(web, version) for version in range(len(web))]
+    known = {}
+
+    def enough(group, many):
+        if len(group) == 1 or many == 0:
+            return len(group) <= 1
+        if (group, many) not in known:
+            known[group, many] = any(enough(group - part, many - 1) and enough(group & part, many - 1)
+                                     for part in higher if group & part and group - part)
+        return known[group, many]
+
+    return next(many for many in range(len(some)) if enough(frozenset(some), many))
+
+
+def some_known(chance, web):
+    """A version known as bad and a list of some known as good, by chance."""
+    goods = [chance.randrange(len(web)) for turn in range(chance.choice((0, 1, 1, 2, 3, 5)))]
+    return chance.randrange(len(web)), goods
+
+
+def line_web(many):
+    """Versions one behind the other in one row."""
+    return [()] + [(version,) for version in range(many - 1)]
+
+
+# The two known ones of a web, each with at least one number of no version.
+NO_KNOWN = ((-1, []), (0, [-1]), (0, [0, -1]), (1000, []), (0, [1000]), (0, [0, 0, 1000]), (-1, [1000]), (-1000, [0]))
+
+
+def source_by_words(history, version, path, place):
+    """[6.2] word by word: the line from which a line comes, or None."""
+    row = history.tree(version)[path]
+    for elder in sorted(history.web()[version]):
+        tree = history.tree(elder)
+        if path in tree:
+            for old, new in kept(tree[path], row):
+                if new == place:
+                    return (elder, old)
+    return None
+
+
+def chain_by_words(history, version, path, place):
+    """[6.3] word by word."""
+    source = source_by_words(history, version, path, place)
+    return [(version, place)] + (chain_by_words(history, source[0], path, source[1]) if source else [])
+
+
+def lines_at(history, path):
+    """All lines of a history with a path, as tuples of the version and the place."""
+    trees = [history.tree(version) for version in range(history.many())]
+    return [(version, place) for version, tree in enumerate(trees) for place in range(len(tree.get(path, [])))]
+
+
+def file_history(web, *rows):
+    """A history of one file, "a", given by its lines with blanks between; None for no file."""
+    return history_of(web, [{} if row is None else {"a": row.split()} for row in rows])
+
+
+def long_history():
+    """Forty versions with three elders each and rows of forty lines, most of them kept."""
+    rows = [own_lines(40)]
+    for version in range(1, 40):
+        row = list(rows[-1])
+        row[version * 7 % 40] = own_line(40 + version)
+        rows.append(row[1:] + row[:1] if version % 5 == 0 else row)
+    return history_of(dense_web(), [{"a": row, "b": row[:3]} for row in rows])
+
+
+# Texts that may be handed in as paths and are in no tree.
+NO_PATHS = ("", "A", "a b", "abcdefghi", "zz", "a1", " ", "\n", "a\n", "\t", "a=", "~", "-")

@@ -23,6 +23,12 @@ INTERFACE = {
     "treemerge": {"merged_trees": "base one other", "common_tree": "history some",
                   "merged_versions": "history one other"},
     "undoing": {"undone": "history head version elder"},
+    "asking": {"suspects": "web bad goods", "fewest": "web bad goods", "plan": "web bad goods",
+               "plan_holds": "web bad goods plan", "led": "plan answers", "length": "plan"},
+    "bound": {"contrary": "web bad goods many", "contrary_holds": "web bad goods many table"},
+    "whence": {"whence": "history version path", "chain": "history version path place",
+               "chain_holds": "history path told"},
+    "lives": {"lives": "history version path place"},
 }
 
 METHODS = {
