@@ -34,3 +34,11 @@ class History:
         """The tree of a version."""
         check_versions(self.elders, [version])
         return copied_tree(self.trees[version])
+
+
+def copied_history(history):
+    """A history of its own with the same web and trees."""
+    fresh = History()
+    for version, elders in enumerate(history.web()):
+        fresh.put_version(elders, history.tree(version))
+    return fresh

@@ -4,6 +4,7 @@ import copy
 import itertools
 import random
 
+from pasthall.changes import change
 from pasthall.errors import PastError
 from pasthall.histories import History
 from pasthall.kept import kept
@@ -501,3 +502,67 @@ def long_history():
 
 # Texts that may be handed in as paths and are in no tree.
 NO_PATHS = ("", "A", "a b", "abcdefghi", "zz", "a1", " ", "\n", "a\n", "\t", "a=", "~", "-")
+
+
+def text_sum_by_words(text):
+    """[7.1] word by word."""
+    number = 7
+    for sign in text:
+        if sign == "\n":
+            own = 1
+        elif sign == " ":
+            own = 2
+        elif sign.isdigit():
+            own = 3 + int(sign)
+        else:
+            own = 13 + ord(sign) - ord("a")
+        number = (number * 31 + own) % 1000003
+    return number
+
+
+def sum_by_words(elder_sums, tree):
+    """[7.1] word by word: the sum of a version, of its elders' sums and its tree."""
+    text = "".join(str(number) + " " for number in elder_sums) + "\n"
+    for path, row in sorted(tree.items()):
+        text += path + " " + str(len(row)) + "\n" + "".join(line + "\n" for line in row)
+    return text_sum_by_words(text)
+
+
+def sums_by_words(history):
+    told = []
+    for version, elders in enumerate(history.web()):
+        told.append(sum_by_words([told[elder] for elder in elders], history.tree(version)))
+    return told
+
+
+def chains_by_words(web, depth):
+    """[7.3] word by word."""
+    told = []
+    for elders in web:
+        told.append(0 if not elders or told[elders[0]] + 1 > depth else told[elders[0]] + 1)
+    return told
+
+
+def deed_text(path, word, told):
+    """[7.4]: the text of a file or of a deed of a change."""
+    text = word + " " + path + " " + str(len(told)) + "\n"
+    if word == "edit":
+        return text + "".join({"put": "+", "take": "-"}[way] + str(place) + "=" + line + "\n"
+                              for way, place, line in told)
+    return text + "".join("=" + line + "\n" for line in told)
+
+
+def packed_by_words(history, depth):
+    """[7.4] word by word."""
+    web, text = history.web(), "pack " + str(history.many()) + " " + str(depth) + "\n"
+    whole, sums = [chain == 0 for chain in chains_by_words(web, depth)], sums_by_words(history)
+    for version, elders in enumerate(web):
+        tree = history.tree(version)
+        text += "version " + (" ".join(str(elder) for elder in elders) or "-") + "\n"
+        text += "whole\n" if whole[version] else "more\n"
+        deeds = {path: ("file", row) for path, row in tree.items()}
+        if not whole[version]:
+            deeds = change(history.tree(elders[0]), tree)
+        text += "".join(deed_text(path, *deeds[path]) for path in sorted(deeds))
+        text += "sum " + str(sums[version]) + "\n"
+    return text

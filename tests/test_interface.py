@@ -29,10 +29,18 @@ INTERFACE = {
     "whence": {"whence": "history version path", "chain": "history version path place",
                "chain_holds": "history path told"},
     "lives": {"lives": "history version path place"},
+    "sums": {"text_sum": "text", "sums": "history", "sum_paper": "history version", "sum_holds": "number paper",
+             "lacks": "history numbers"},
+    "packing": {"packed": "history depth", "chains": "web depth"},
+    "packs": {"unpacked": "text"},
+    "store": {"Store": ""},
 }
 
 METHODS = {
     ("histories", "History"): {"many": "", "web": "", "put_version": "elders tree", "tree": "version"},
+    ("store", "Store"): {"names": "", "version": "name", "history": "", "state": "", "came_of": "",
+                         "begin": "name tree", "save": "name tree", "fork": "name other", "drop": "name",
+                         "join": "name other", "undo": "", "redo": "number"},
 }
 
 
